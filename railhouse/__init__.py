@@ -1,0 +1,1 @@
+"""Railhouse: track, interlocking, plans and clock of a railway."""

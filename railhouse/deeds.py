@@ -1,0 +1,42 @@
+"""Lists of deeds that are performed on a panel, all or none."""
+
+from railhouse.errors import RailError
+from railhouse.panel import Panel
+
+
+def perform(panel, deeds):
+    """Perform the deeds in order and return their number; if one is refused, take back those before it."""
+    many = 0
+    for deed in deeds:
+        try:
+            _do(panel, deed)
+        except RailError:
+            for _ in range(many):
+                panel.undo()
+            raise
+        many += 1
+    return many
+
+
+def replay(layout, deeds, *, flank=True):
+    """Return a new panel on which the deeds were performed in order."""
+    panel = Panel(layout, flank=flank)
+    perform(panel, deeds)
+    return panel
+
+
+def _do(panel, deed):
+    word = deed[0]
+    train = deed[1]
+    if word == "place":
+        panel.place(train, deed[2], deed[3])
+    elif word == "request":
+        panel.request(train, deed[2])
+    elif word == "advance":
+        panel.advance(train)
+    elif word == "release":
+        panel.release(train)
+    elif word == "cancel":
+        panel.cancel(train)
+    else:
+        panel.withdraw(train)

@@ -1,0 +1,127 @@
+"""The interface: every name stands in its file, with its arguments; its examples give what they show."""
+
+import importlib
+import inspect
+import unittest
+
+from railhouse.errors import BadWay, CrowdedEnd
+from railhouse.layout import Layout
+from railhouse.panel import Panel
+from railhouse.plans import Plan
+from railhouse.rings import standstill
+from railhouse.routes import RouteTable
+from railhouse.settings import setting
+from railhouse.sides import side_by_side
+from railhouse.trains import Train, releases
+from railhouse.ways import distances, heading, least_way
+from tests.support import Case
+
+FUNCTIONS = {
+    "ways": [
+        "heading(layout, way)", "way_length(layout, way)", "distances(layout, start)",
+        "least_way(layout, start, goal)", "count_ways(layout, start, goal)", "each_way(layout, start, goal)",
+    ],
+    "sides": [
+        "side_by_side(layout, starts, goals)", "is_cut(layout, starts, goals, closed)", "are_apart(ways)",
+    ],
+    "routes": [
+        "joint_demands(layout, before, after)", "flank_demands(layout, before, after, on_way)",
+    ],
+    "settings": [
+        "can_set(table, routes)", "setting(table, routes)", "blockers(table, routes, route)",
+        "greatest_setting(table, routes)", "count_settings(table, routes)", "phases(table, routes)",
+    ],
+    "deeds": ["perform(panel, deeds)", "replay(layout, deeds, *, flank=True)"],
+    "trains": ["releases(layout, train)"],
+    "plans": ["orders_by_time(layout, trains, times)"],
+    "rings": ["run_out(plan)", "is_alive(plan)", "standstill(plan)"],
+}
+CLASSES = {
+    "layout.Layout": [
+        "__init__(self, lengths, joints, *, yards=())", "__eq__(self, other)", "__contains__(self, block)",
+        "length_of(self, block)", "is_yard(self, block)", "east_of(self, block)", "west_of(self, block)",
+        "branches(self, block, side)", "joined(self, west, east)", "joints(self)", "points(self)",
+    ],
+    "routes.RouteTable": [
+        "__init__(self, layout, ways, *, flank=True)", "route_way(self, route)", "claims(self, route)",
+        "demands(self, route)", "clash(self, first, second)",
+    ],
+    "panel.Panel": [
+        "__init__(self, layout, *, flank=True)", "place(self, train, block, heading)", "request(self, train, blocks)",
+        "advance(self, train)", "release(self, train)", "cancel(self, train)", "withdraw(self, train)", "undo(self)",
+        "journal(self)", "trains(self)", "holders(self, block)", "heading(self, train)", "occupied(self, train)",
+        "ahead(self, train)", "requests(self, train)", "locks(self)", "state(self)",
+    ],
+    "trains.Train": ["__init__(self, way, *, length=1)", "blocks(self)", "step_of(self, block)"],
+    "plans.Plan": [
+        "__init__(self, layout, trains, orders, *, turns=())", "train_of(self, number)", "order(self, block)",
+        "turns(self)", "stay(self, train, step)", "befores(self, event)", "afters(self, event)",
+    ],
+}
+
+
+class NameTest(Case):
+    def test_functions(self):
+        for module, texts in FUNCTIONS.items():
+            for text in texts:
+                name = text.partition("(")[0]
+                value = getattr(importlib.import_module(f"railhouse.{module}"), name)
+                self.assertEqual(name + str(inspect.signature(value)), text)
+                self.assertEqual(value.__module__, f"railhouse.{module}")
+
+    def test_methods_stand_in_the_body_of_their_class(self):
+        for path, texts in CLASSES.items():
+            module, name = path.split(".")
+            value = getattr(importlib.import_module(f"railhouse.{module}"), name)
+            self.assertEqual(value.__module__, f"railhouse.{module}")
+            for text in texts:
+                method = vars(value)[text.partition("(")[0]]
+                self.assertEqual(method.__name__ + str(inspect.signature(method)), text)
+
+
+class ExampleTest(Case):
+    def setUp(self):
+        self.diamond = Layout([40, 30, 30, 50], [(0, 1), (0, 2), (1, 3), (2, 3)])
+        self.fork = Layout([40, 40, 60, 60], [(0, 2), (0, 3), (1, 3)])
+        self.table = RouteTable(self.fork, [[1, 3], [0, 3], [0, 2]])
+        joints = [(0, 1), (1, 2), (2, 3), (3, 4)]
+        self.chain = Layout([200, 100, 50, 100, 200], joints, yards=[0, 2, 4])
+
+    def test_layout(self):
+        self.assertEqual(self.diamond.points(), [(0, "east"), (3, "west")])
+        self.refused(CrowdedEnd, {"block": 0, "side": "east"}, Layout, [5, 5, 5, 5], [(0, 1), (0, 2), (0, 3)])
+
+    def test_ways(self):
+        self.refused(BadWay, {"at": 1}, heading, self.diamond, [0, 1, 2])
+        self.assertEqual(least_way(self.diamond, 0, 3), [0, 1, 3])
+        self.assertEqual(distances(self.diamond, 0), [40, 70, 70, 120])
+
+    def test_sides(self):
+        self.assertEqual(side_by_side(self.diamond, [1, 2], [1, 2]), ([[1], [2]], [1, 2]))
+
+    def test_routes(self):
+        self.assertEqual(self.table.demands(0), [(0, "east", 2), (3, "west", 1)])
+        self.assertEqual(self.table.clash(0, 1), ("block", 3, ""))
+        self.assertIsNone(self.table.clash(0, 2))
+
+    def test_settings(self):
+        self.assertEqual(setting(self.table, [2, 0]), ([(0, "east", 2), (3, "west", 1)], [(2, 2), (3, 0)]))
+
+    def test_panel(self):
+        panel = Panel(self.fork)
+        panel.place(7, 1, "east")
+        panel.request(7, [3])
+        self.assertEqual(panel.state(), ([(7, "east", (1,), (3,), (1,))], [(0, "east", 2), (3, "west", 1)]))
+
+    def test_trains(self):
+        found = [releases(self.chain, Train([0, 1, 2, 3, 4], length=length)) for length in (40, 70)]
+        self.assertEqual(found, [[3, 5, 7, 9, 10], [3, 7, 7, 9, 10]])
+
+    def test_rings(self):
+        trains = [Train([0, 1, 2, 3, 4], length=70), Train([4, 3, 2, 1, 0], length=60)]
+        plan = Plan(self.chain, trains, [[], [0, 1], [], [1, 0], []])
+        self.assertEqual(standstill(plan), ([6, 6], [(0, 1, 3), (1, 0, 1)], [0, 1]))
+
+
+if __name__ == "__main__":
+    unittest.main()
