@@ -12,10 +12,11 @@ def side_by_side(layout, starts, goals):
     while _sink(layout) in came:
         _push(room, came, _sink(layout))
         came = _search(room, _source(layout))
-    ways = [_way_from(layout, room, start) for start in sorted(set(starts)) if room[_into(start)][_source(layout)] > 0]
+    taken = [start for start in sorted(set(starts)) if room[_into(start)][_source(layout)] > 0]
+    ways = [_way_from(layout, room, start) for start in taken]
     # A block is in the nearest cut if the search comes into it and not through it.
     cut = [block for block in range(layout.size) if _into(block) in came and _out_of(block) not in came]
-    return sorted(ways), cut
+    return ways, cut
 
 
 def _into(block):

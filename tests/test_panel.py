@@ -206,6 +206,19 @@ class LockTest(Case):
         self.assertEqual(bare.locks(), [(0, "east", 2), (1, "east", 4)])
 
 
+    def test_the_least_of_two_points(self):
+        # Twice the same as in TWIN, one behind the other: the train from 9 comes to the greater point first.
+        layout = Layout([1] * 10, [*TWIN.joints(), (5, 7), (5, 8), (6, 8), (6, 9), (2, 5), (4, 6)])
+        for first, blocks, second, others in ((0, [2, 5, 7], 9, [6, 4, 1]), (7, [5, 2, 0], 1, [4, 6, 9])):
+            panel = Panel(layout)
+            panel.place(1, first, "east" if first == 0 else "west")
+            panel.place(2, second, "west" if second == 9 else "east")
+            panel.request(1, blocks)
+            self.assertEqual(panel.locks(), [(0, "east", 2), (3, "west", 1), (5, "east", 7), (8, "west", 6)])
+            self.refused(PointLocked, {"block": 3, "side": "west"}, panel.request, 2, others)
+            self.refused(PointLocked, {"block": 8 if second == 9 else 3, "side": "west"}, panel.request, 2, others[:-1])
+
+
 class DeedErrorTest(Case):
     def setUp(self):
         self.panel = on_chain(("request", [1, 2]), ("advance",))

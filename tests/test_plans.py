@@ -132,6 +132,7 @@ class ConstructorErrorTest(Case):
     def test_bad_turn(self):
         for first, second in (
             (5, 1), (0, 5), (-1, 1), (0, -1), (GREAT, 0), (0, GREAT), (0, 0), (4, 4), (0, 2), (1, 3), (3, 0), (2, 4),
+            (-1, 0), (0, -4),
         ):
             values = {"first": first, "second": second}
             self.refused(BadTurn, values, Plan, CHAIN, SHUTTLES, SHUTTLE_ORDERS, turns=[(first, second)])

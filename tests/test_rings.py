@@ -100,6 +100,21 @@ class RunOutTest(Case):
         plan = Plan(CHAIN, trains, [[], [2, 1, 0], [], [1, 2], []])
         self.assertEqual(standstill(plan), ([2, 6, 6], [(0, 1, 1), (1, 2, 1), (2, 1, 3)], [1, 2]))
 
+    def test_two_rings(self):
+        joints = [(at, at + 1) for at in range(9) if at != 4]
+        layout = Layout([200, 100, 50, 100, 200] * 2, joints, yards=[0, 2, 4, 5, 7, 9])
+        east, west = [0, 1, 2, 3, 4], [4, 3, 2, 1, 0]
+        ways = [east, west, [block + 5 for block in east], [block + 5 for block in west]]
+        for places, ring in (((0, 1, 2, 3), [0, 1]), ((0, 2, 1, 3), [0, 2]), ((3, 0, 1, 2), [0, 3])):
+            trains = [None] * 4
+            for place, way in zip(places, ways):
+                trains[place] = Train(way, length=70)
+            a, b, c, d = places
+            orders = [[], [a, b], [], [b, a], [], [], [c, d], [], [d, c], []]
+            plan = Plan(layout, trains, orders)
+            self.assertEqual(standstill(plan), plain_standstill(plan))
+            self.assertEqual(standstill(plan)[2], ring)
+
     def test_a_train_that_has_finished_does_not_wait(self):
         trains = [Train([2]), *TRAINS]
         plan = Plan(CHAIN, trains, [[], [1, 2], [], [2, 1], []])

@@ -47,6 +47,18 @@ def chance_table(seed, many):
     return RouteTable(layout, chance_ways(layout, seed, many, shortest=2), flank=seed % 3 > 0)
 
 
+def table_of(clashes, many):
+    """Return a table of `many` routes of which exactly these pairs clash, each of them over a block of its own."""
+    joints = []
+    for at in range(0, 2 * len(clashes), 2):
+        joints += [(at, at + 1), (at + 1, at + 2), (at, at + 2)]
+    yards = list(range(0, 2 * len(clashes) + 1, 2))
+    layout = Layout([1] * (2 * len(clashes) + 1), joints, yards=yards)
+    sides = {2 * at + 1: pair for at, pair in enumerate(clashes)}
+    ways = [[block for block in range(layout.size) if block in yards or route in sides[block]] for route in range(many)]
+    return RouteTable(layout, ways)
+
+
 class SettingTest(Case):
     def test_example(self):
         self.assertEqual(setting(TABLE, [2, 0]), ([(0, "east", 2), (3, "west", 1)], [(2, 2), (3, 0)]))
@@ -159,6 +171,25 @@ class DivisionTest(Case):
             table = chance_table(seed, 7)
             routes = list(range(table.size))
             random.Random(seed).shuffle(routes)
+            good = [part for part in parts_of(routes) if fit(table, part)]
+            self.assertEqual(count_settings(table, routes), len(good))
+            self.assertEqual(greatest_setting(table, routes), min(good, key=lambda part: (-len(part), part)))
+            self.assertEqual(self.check_phases(table, routes), fewest_phases(table, routes))
+
+    def test_the_first_division_that_comes_to_mind_is_not_the_least(self):
+        # Route 0 clashes with all; 1, 3, 5 and 2, 4, 6 clash crosswise, except each with its partner.
+        crown = [(0, route) for route in range(1, 7)]
+        crown += [(a, b) for a in (1, 3, 5) for b in (2, 4, 6) if b != a + 1]
+        table = table_of(crown, 7)
+        self.assertEqual(phases(table, list(range(7))), [[0], [1, 3, 5], [2, 4, 6]])
+        self.assertEqual(greatest_setting(table, list(range(7))), [1, 3, 5])
+        self.assertEqual(count_settings(table, list(range(7))), 19)
+        self.assertEqual(phases(table, list(range(1, 7))), [[1, 3, 5], [2, 4, 6]])
+
+    def test_clashes_by_chance(self):
+        for seed in range(25):
+            pairs = random.Random(seed).sample(list(combinations(range(8), 2)), 6 + seed % 20)
+            table, routes = table_of(pairs, 8), list(range(8))
             good = [part for part in parts_of(routes) if fit(table, part)]
             self.assertEqual(count_settings(table, routes), len(good))
             self.assertEqual(greatest_setting(table, routes), min(good, key=lambda part: (-len(part), part)))

@@ -7,6 +7,7 @@ from itertools import combinations
 from railhouse.errors import NoBlock
 from railhouse.layout import Layout
 from railhouse.sides import are_apart, is_cut, side_by_side
+from railhouse.ways import heading
 from tests.support import Case, chance_layout, every_way, everything, ladder, no_blocks
 
 DIAMOND = Layout([40, 30, 30, 50], [(0, 1), (0, 2), (1, 3), (2, 3)])
@@ -55,6 +56,20 @@ class SideBySideTest(Case):
             goals = chance.sample(range(8), chance.randint(0, 4))
             self.check(layout, starts, goals)
             self.check(layout, starts[::-1] + starts, goals + goals)
+
+    def test_great_layouts_by_chance(self):
+        # As many ways as blocks in the cut: then neither more ways nor a smaller cut is possible.
+        for seed in range(150):
+            layout = chance_layout(seed, 30, 60, yards=0.3)
+            chance = random.Random(seed)
+            starts, goals = chance.sample(range(18), 6), chance.sample(range(12, 30), 6)
+            ways, cut = side_by_side(layout, starts, goals)
+            self.assertEqual((ways, cut), (sorted(ways), sorted(cut)))
+            self.assertTrue(are_apart(ways) and is_cut(layout, starts, goals, cut))
+            self.assertEqual(len(ways), len(cut))
+            for way in ways:
+                self.assertTrue(way[0] in starts and way[-1] in goals)
+                self.assertEqual(heading(layout, way), "east")
 
     def test_a_way_that_has_to_give_way(self):
         # The way 0, 2, 5 has to turn aside, or there is no second one.
