@@ -1,6 +1,6 @@
 """Plans: in which order the trains take each block, and which event directly precedes which."""
 
-from railhouse.errors import BadOrder, BadTrain, BadTurn, NoEvent, NoStep, NoTrain
+from railhouse.errors import BadOrder, BadTrain, BadTurn, NoEvent, NoStep, NoTrain, RailError
 from railhouse.layout import check_block
 from railhouse.trains import releases
 from railhouse.ways import is_way
@@ -71,13 +71,10 @@ class Plan:
         for block in range(self.layout.size):
             order = self._orders[block]
             for first, second in zip(order, order[1:]):
-                pairs.append(((first, self._bounds(first, block)[1]), (second, self._bounds(second, block)[0])))
+                pairs.append(((first, bounds_at(self, first, block)[1]), (second, bounds_at(self, second, block)[0])))
         for first, second in self._turns:
             pairs.append(((first, self._trains[first].last), (second, 0)))
         return pairs
-
-    def _bounds(self, train, block):
-        return self.stay(train, self._trains[train].step_of(block))
 
 
 def check_train(plan, train):
@@ -99,6 +96,20 @@ def check_event(plan, event):
     check_train(plan, train)
     if number < 0 or number > plan.train_of(train).last:
         raise NoEvent(train, number)
+
+
+def is_event(plan, event):
+    """Tell whether the pair is an event of the plan."""
+    try:
+        check_event(plan, event)
+    except RailError:
+        return False
+    return True
+
+
+def bounds_at(plan, train, block):
+    """Return the bounds of the stay of the train at a block of its way."""
+    return plan.stay(train, plan.train_of(train).step_of(block))
 
 
 def _check_trains(layout, trains):

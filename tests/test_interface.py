@@ -4,14 +4,18 @@ import importlib
 import inspect
 import unittest
 
-from railhouse.errors import BadWay, CrowdedEnd
+from railhouse.chains import chain
+from railhouse.errors import BadWay, CrowdedEnd, NeverAtOnce
+from railhouse.exchanges import exchange, mending, needed
 from railhouse.layout import Layout
 from railhouse.panel import Panel
+from railhouse.places import tracks
 from railhouse.plans import Plan
 from railhouse.rings import standstill
 from railhouse.routes import RouteTable
 from railhouse.settings import setting
 from railhouse.sides import side_by_side
+from railhouse.together import at_once
 from railhouse.trains import Train, releases
 from railhouse.ways import distances, heading, least_way
 from tests.support import Case
@@ -35,6 +39,16 @@ FUNCTIONS = {
     "trains": ["releases(layout, train)"],
     "plans": ["orders_by_time(layout, trains, times)"],
     "rings": ["run_out(plan)", "is_alive(plan)", "standstill(plan)"],
+    "chains": ["chain(plan, first, second)", "comes_before(plan, first, second)", "is_chain(plan, events)"],
+    "exchanges": [
+        "exchange(plan, block, place)", "barring_chain(plan, block, place)", "mending(plan)", "needed(plan)",
+    ],
+    "drives": ["is_driving(plan, driving)"],
+    "together": ["at_once(plan, stays)"],
+    "places": [
+        "visits(plan, blocks)", "present(plan, blocks, driving)", "crowd(plan, blocks)", "tracks(plan, blocks)",
+        "fits_tracks(plan, blocks, lists)",
+    ],
 }
 CLASSES = {
     "layout.Layout": [
@@ -57,7 +71,12 @@ CLASSES = {
         "__init__(self, layout, trains, orders, *, turns=())", "train_of(self, number)", "order(self, block)",
         "turns(self)", "stay(self, train, step)", "befores(self, event)", "afters(self, event)",
     ],
+    "drives.Drive": [
+        "__init__(self, plan)", "__iter__(self)", "step(self, train)", "back(self)", "run(self)", "done(self, train)",
+        "may_step(self)", "held(self, train)", "holders(self, block)",
+    ],
 }
+PROPERTIES = {"drives.Drive": ["finished"]}
 
 
 class NameTest(Case):
@@ -78,6 +97,13 @@ class NameTest(Case):
                 method = vars(value)[text.partition("(")[0]]
                 self.assertEqual(method.__name__ + str(inspect.signature(method)), text)
 
+    def test_properties_stand_in_the_body_of_their_class(self):
+        for path, words in PROPERTIES.items():
+            module, name = path.split(".")
+            value = getattr(importlib.import_module(f"railhouse.{module}"), name)
+            for word in words:
+                self.assertIsInstance(vars(value)[word], property)
+
 
 class ExampleTest(Case):
     def setUp(self):
@@ -85,7 +111,10 @@ class ExampleTest(Case):
         self.fork = Layout([40, 40, 60, 60], [(0, 2), (0, 3), (1, 3)])
         self.table = RouteTable(self.fork, [[1, 3], [0, 3], [0, 2]])
         joints = [(0, 1), (1, 2), (2, 3), (3, 4)]
-        self.chain = Layout([200, 100, 50, 100, 200], joints, yards=[0, 2, 4])
+        self.line = Layout([200, 100, 50, 100, 200], joints, yards=[0, 2, 4])
+        self.trains = [Train([0, 1, 2, 3, 4], length=70), Train([4, 3, 2, 1, 0], length=60)]
+        self.dead = Plan(self.line, self.trains, [[], [0, 1], [], [1, 0], []])
+        self.plan = Plan(self.line, self.trains, [[], [0, 1], [], [0, 1], []])
 
     def test_layout(self):
         self.assertEqual(self.diamond.points(), [(0, "east"), (3, "west")])
@@ -114,13 +143,24 @@ class ExampleTest(Case):
         self.assertEqual(panel.state(), ([(7, "east", (1,), (3,), (1,))], [(0, "east", 2), (3, "west", 1)]))
 
     def test_trains(self):
-        found = [releases(self.chain, Train([0, 1, 2, 3, 4], length=length)) for length in (40, 70)]
+        found = [releases(self.line, Train([0, 1, 2, 3, 4], length=length)) for length in (40, 70)]
         self.assertEqual(found, [[3, 5, 7, 9, 10], [3, 7, 7, 9, 10]])
 
     def test_rings(self):
-        trains = [Train([0, 1, 2, 3, 4], length=70), Train([4, 3, 2, 1, 0], length=60)]
-        plan = Plan(self.chain, trains, [[], [0, 1], [], [1, 0], []])
-        self.assertEqual(standstill(plan), ([6, 6], [(0, 1, 3), (1, 0, 1)], [0, 1]))
+        self.assertEqual(standstill(self.dead), ([6, 6], [(0, 1, 3), (1, 0, 1)], [0, 1]))
+
+    def test_chains(self):
+        self.assertEqual(chain(self.plan, (0, 5), (1, 6)), [(0, 5), (0, 6), (0, 7), (1, 6)])
+
+    def test_exchanges(self):
+        self.assertEqual([mending(self.dead), needed(exchange(self.dead, 3, 0))], [[(1, 0), (3, 0)], [(3, 0)]])
+
+    def test_together(self):
+        self.assertEqual(at_once(self.plan, [(0, 2), (1, 0)]), [0, 0, 0, 0, 0, 1])
+        self.refused(NeverAtOnce, {"first": (0, 1), "second": (1, 3)}, at_once, self.plan, [(1, 3), (0, 1)])
+
+    def test_places(self):
+        self.assertEqual(tracks(self.plan, [2]), [[0, 1]])
 
 
 if __name__ == "__main__":

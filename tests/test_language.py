@@ -16,7 +16,8 @@ any all divmod ValueError KeyError""".split()
 METHODS = """append clear copy count endswith extend find get index insert isalnum isalpha isdigit islower isspace isupper
 items join keys ljust lower lstrip partition pop remove replace reverse rfind rjust rpartition rsplit rstrip setdefault
 split splitlines startswith strip update upper values zfill bit_length add discard""".split()
-DOUBLE = ["__init__", "__eq__", "__contains__"]
+OPERATORS = ["__eq__", "__contains__", "__iter__", "__add__", "__or__", "__and__"]
+DOUBLE = ["__init__"] + OPERATORS
 STATEMENTS = (
     ast.Assign, ast.AugAssign, ast.If, ast.While, ast.For, ast.Return, ast.Break, ast.Continue, ast.Pass, ast.Raise,
     ast.Delete, ast.Try, ast.Expr, ast.FunctionDef, ast.ClassDef, ast.ImportFrom,
@@ -126,7 +127,8 @@ class CodeTest(unittest.TestCase):
         for name, node in nodes(ast.stmt):
             self.assertIsInstance(node, STATEMENTS, (name, node.lineno))
         for name, node in nodes(ast.FunctionDef):
-            self.assertEqual((node.decorator_list, node.returns), ([], None), (name, node.name))
+            self.assertIn([ast.unparse(call) for call in node.decorator_list], ([], ["property"]), (name, node.name))
+            self.assertIsNone(node.returns, (name, node.name))
         for name, node in nodes(ast.arg):
             self.assertIsNone(node.annotation, (name, node.arg))
 
@@ -164,7 +166,7 @@ class CodeTest(unittest.TestCase):
 class NameTest(unittest.TestCase):
     def test_only_known_names_are_read(self):
         for name, tree in TREES.items():
-            known = BUILTINS + own_names(tree) + imported_names(tree)
+            known = BUILTINS + own_names(tree) + imported_names(tree) + ["property", "iter"]
             functions = [node for node in ast.walk(tree) if isinstance(node, ast.FunctionDef)]
             for function in functions:
                 local = local_names(function)
@@ -197,6 +199,25 @@ class NameTest(unittest.TestCase):
             self.assertTrue(node.name in DOUBLE or not node.name.startswith("__"), (name, node.name))
         for name, node in nodes(ast.Attribute):
             self.assertFalse(node.attr.startswith("__"), (name, node.lineno))
+
+    def test_operators_and_properties_only_return(self):
+        for name, node in nodes(ast.FunctionDef):
+            if node.name not in OPERATORS and not node.decorator_list:
+                continue
+            *docstrings, last = node.body
+            self.assertTrue(all(map(is_docstring, docstrings)) and isinstance(last, ast.Return), (name, node.name))
+            for call in ast.walk(last):
+                if isinstance(call, ast.Call):
+                    classes = [part.name for part in TREES[name].body if isinstance(part, ast.ClassDef)]
+                    self.assertIn(call.func.id, ["isinstance", "len", "min", "max", "iter"] + classes, (name, node.name))
+        for name, node in nodes(ast.Name):
+            if node.id == "iter":
+                self.assertEqual(len(re.findall(r"return iter\(self\._[a-z]+\)\n", SOURCES[name])), 1, name)
+
+    def test_properties_have_names_of_their_own(self):
+        methods = [node for _, tree in nodes(ast.ClassDef) for node in tree.body if isinstance(node, ast.FunctionDef)]
+        named = {node.name for node in methods if node.decorator_list}
+        self.assertEqual(named & {node.name for node in methods if not node.decorator_list}, set())
 
     def test_words_that_are_not_used(self):
         for name, tree in TREES.items():
