@@ -5,9 +5,11 @@ import inspect
 import unittest
 
 from railhouse.chains import chain
+from railhouse.clock import Clock, critical
 from railhouse.errors import BadWay, CrowdedEnd, NeverAtOnce
 from railhouse.exchanges import exchange, mending, needed
 from railhouse.layout import Layout
+from railhouse.line import Line
 from railhouse.panel import Panel
 from railhouse.places import tracks
 from railhouse.plans import Plan
@@ -15,6 +17,7 @@ from railhouse.rings import standstill
 from railhouse.routes import RouteTable
 from railhouse.settings import setting
 from railhouse.sides import side_by_side
+from railhouse.spans import Span
 from railhouse.together import at_once
 from railhouse.trains import Train, releases
 from railhouse.ways import distances, heading, least_way
@@ -49,6 +52,13 @@ FUNCTIONS = {
         "visits(plan, blocks)", "present(plan, blocks, driving)", "crowd(plan, blocks)", "tracks(plan, blocks)",
         "fits_tracks(plan, blocks, lists)",
     ],
+    "passing": ["panel_deeds(plan, train, number)", "guarded_step(drive, panel, train)"],
+    "clock": ["timed_driving(clock, *, late=False)", "critical(clock, event, *, late=False)"],
+    "promises": [
+        "broken(clock, promises, *, late=True)", "greatest_lateness(clock, promises, *, late=True)",
+        "latest_times(clock, promises, *, late=True)", "harmless(clock, promises, train, step)",
+    ],
+    "delays": ["worst(clock, event, count)", "reach(clock, train, step, amount)"],
 }
 CLASSES = {
     "layout.Layout": [
@@ -75,8 +85,20 @@ CLASSES = {
         "__init__(self, plan)", "__iter__(self)", "step(self, train)", "back(self)", "run(self)", "done(self, train)",
         "may_step(self)", "held(self, train)", "holders(self, block)",
     ],
+    "spans.Span": [
+        "__init__(self, low, high)", "__contains__(self, x)", "__add__(self, other)", "__or__(self, other)",
+        "__and__(self, other)", "__eq__(self, other)",
+    ],
+    "clock.Clock": [
+        "__init__(self, plan, runs, dwells, *, starts=(), clearing=0, turning=0)", "times(self, *, late=False)",
+        "times_with(self, choice)", "span(self, train, number)", "run_span(self, train, step)", "over(self, plan)",
+        "gap(self, first, second, *, late=False)",
+    ],
+    "line.Line": [
+        "__init__(self, yards, sections, east, west)", "trains(self)", "can_meet(self, east, west, yard)",
+    ],
 }
-PROPERTIES = {"drives.Drive": ["finished"]}
+PROPERTIES = {"drives.Drive": ["finished"], "spans.Span": ["width"]}
 
 
 class NameTest(Case):
@@ -161,6 +183,22 @@ class ExampleTest(Case):
 
     def test_places(self):
         self.assertEqual(tracks(self.plan, [2]), [[0, 1]])
+
+    def test_clock(self):
+        runs = [[Span(5, 6)] * 5, [Span(5, 6)] * 5]
+        clock = Clock(self.plan, runs, [[1] * 5, [1] * 5], clearing=2)
+        self.assertEqual(clock.times(), [[0, 5, 6, 11, 12, 17, 18, 23, 24, 29, 30],
+                                         [0, 5, 31, 36, 37, 42, 43, 48, 49, 54, 55]])
+        self.assertEqual(critical(clock, (1, 3))[8:], [(0, 8), (0, 9), (1, 2), (1, 3)])
+
+    def test_attributes(self):
+        clock = Clock(self.plan, [[Span(5, 6)] * 5] * 2, [[1] * 5] * 2)
+        line = Line([9, 9], [5], [1], [1])
+        for value, words in ((self.line, "size"), (self.table, "size"), (self.trains[0], "length steps last"),
+                             (self.plan, "layout size total"), (Span(1, 2), "low high"),
+                             (clock, "plan clearing turning"), (line, "layout sections eastbound westbound")):
+            for word in words.split():
+                self.assertIn(word, vars(value))
 
 
 if __name__ == "__main__":

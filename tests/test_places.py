@@ -203,6 +203,10 @@ class CrowdTest(Case):
             self.refused(NotAlive, {"ring": [0, 1]}, call, RING_OF_TURNS, [], *rest)
             for plan in busy_plans(5, alive=False):
                 self.refused(NotAlive, {"ring": standstill(plan)[2]}, call, plan, [0], *rest)
+            with self.assertRaises(NotAlive) as caught:
+                call(DEAD, [2], *rest)
+            caught.exception.ring.clear()
+            self.refused(NotAlive, {"ring": [0, 1]}, call, DEAD, [2], *rest)
 
 
 class TracksTest(Case):
