@@ -3,7 +3,7 @@
 from railhouse.chains import chain_without
 from railhouse.errors import NoPlace
 from railhouse.plans import Plan, bounds_at
-from railhouse.rings import check_alive, is_alive
+from railhouse.rings import check_alive, is_alive, standstill
 
 
 def exchange(plan, block, place):
@@ -41,9 +41,14 @@ def barring_chain(plan, block, place):
 
 def mending(plan):
     """Return all pairs `(block, place)` whose exchange turns a dead plan into an alive one, ascending."""
-    if is_alive(plan):
+    found = standstill(plan)
+    if found is None:
         return []
-    return [(block, place) for block, place in places_of(plan) if is_alive(exchange(plan, block, place))]
+    _, waits, ring = found
+    # The trains of the ring go on waiting for each other unless the order of a block at which they wait changes.
+    blocks = [block for train, _, block in waits if train in ring]
+    pairs = [(block, place) for block, place in places_of(plan) if block in blocks]
+    return [(block, place) for block, place in pairs if is_alive(exchange(plan, block, place))]
 
 
 def needed(plan):
