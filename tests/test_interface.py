@@ -6,6 +6,8 @@ import unittest
 
 from railhouse.chains import chain
 from railhouse.clock import Clock, critical
+from railhouse.counting import all_tables, count_tables
+from railhouse.duels import two_ring
 from railhouse.errors import BadWay, CrowdedEnd, NeverAtOnce
 from railhouse.exchanges import exchange, mending, needed
 from railhouse.layout import Layout
@@ -18,6 +20,8 @@ from railhouse.routes import RouteTable
 from railhouse.settings import setting
 from railhouse.sides import side_by_side
 from railhouse.spans import Span
+from railhouse.stock import deficit, link
+from railhouse.tables import first_fault
 from railhouse.together import at_once
 from railhouse.trains import Train, releases
 from railhouse.ways import distances, heading, least_way
@@ -59,6 +63,19 @@ FUNCTIONS = {
         "latest_times(clock, promises, *, late=True)", "harmless(clock, promises, train, step)",
     ],
     "delays": ["worst(clock, event, count)", "reach(clock, train, step, amount)"],
+    "tables": [
+        "first_fault(line, table)", "line_orders(line, table)", "line_plan(line, table)", "table_of(line, plan)",
+    ],
+    "counting": ["count_tables(line)", "all_tables(line)"],
+    "duels": ["two_ring(plan)"],
+    "choices": [
+        "keeping_tables(line, runs, dwells, promises, *, starts=(), clearing=0)",
+        "best_table(line, runs, dwells, promises, *, starts=(), clearing=0)",
+    ],
+    "stock": [
+        "deficit(workings, place, *, turning=0)", "least_sets(workings, *, turning=0)", "link(workings, *, turning=0)",
+        "is_linking(workings, links, *, turning=0)",
+    ],
 }
 CLASSES = {
     "layout.Layout": [
@@ -190,6 +207,22 @@ class ExampleTest(Case):
         self.assertEqual(clock.times(), [[0, 5, 6, 11, 12, 17, 18, 23, 24, 29, 30],
                                          [0, 5, 31, 36, 37, 42, 43, 48, 49, 54, 55]])
         self.assertEqual(critical(clock, (1, 3))[8:], [(0, 8), (0, 9), (1, 2), (1, 3)])
+
+    def test_tables(self):
+        self.assertEqual(first_fault(Line([200, 50, 200], [100, 100], [70], [60]), [[1]]), ("fit", 0, 0))
+
+    def test_counting(self):
+        self.assertEqual(count_tables(Line([9, 9, 9], [5, 5], [1, 1], [1])), 6)
+        self.assertEqual(all_tables(Line([9, 9, 9], [5, 5], [1], [1])), [[[0]], [[1]], [[2]]])
+
+    def test_duels(self):
+        self.assertEqual(two_ring(self.dead), (0, 1, 1, 3))
+
+    def test_stock(self):
+        workings = [(0, 4, 0, 30), (4, 0, 35, 60), (0, 4, 20, 50)]
+        self.assertEqual([deficit(workings, 0), deficit(workings, 4), deficit(workings, 4, turning=10)],
+                         [(2, 20), (0, None), (1, 35)])
+        self.assertEqual([link(workings), link(workings, turning=10)], [[(0, 1)], []])
 
     def test_attributes(self):
         clock = Clock(self.plan, [[Span(5, 6)] * 5] * 2, [[1] * 5] * 2)

@@ -15,7 +15,7 @@ BUILTINS = """len range enumerate zip min max sum abs sorted reversed int str bo
 any all divmod ValueError KeyError""".split()
 METHODS = """append clear copy count endswith extend find get index insert isalnum isalpha isdigit islower isspace isupper
 items join keys ljust lower lstrip partition pop remove replace reverse rfind rjust rpartition rsplit rstrip setdefault
-split splitlines startswith strip update upper values zfill bit_length add discard""".split()
+split splitlines startswith strip update upper values zfill bit_length isascii add discard""".split()
 OPERATORS = ["__eq__", "__contains__", "__iter__", "__add__", "__or__", "__and__"]
 DOUBLE = ["__init__"] + OPERATORS
 STATEMENTS = (
@@ -64,6 +64,14 @@ def is_docstring(node):
     return isinstance(node, ast.Expr) and isinstance(node.value, ast.Constant) and isinstance(node.value.value, str)
 
 
+def is_constant(node):
+    """Tell whether a number, a string or a tuple of such is assigned."""
+    if not isinstance(node, ast.Assign):
+        return False
+    values = node.value.elts if isinstance(node.value, ast.Tuple) else [node.value]
+    return all(isinstance(value, ast.Constant) for value in values)
+
+
 class FileTest(unittest.TestCase):
     def test_names_and_characters(self):
         for path in FILES:
@@ -91,8 +99,7 @@ class FileTest(unittest.TestCase):
         for name, tree in TREES.items():
             for node in tree.body:
                 plain = isinstance(node, (ast.FunctionDef, ast.ClassDef, ast.ImportFrom)) or is_docstring(node)
-                number = isinstance(node, ast.Assign) and isinstance(node.value, ast.Constant)
-                self.assertTrue(plain or number, (name, node.lineno))
+                self.assertTrue(plain or is_constant(node), (name, node.lineno))
             bound = own_names(tree) + imported_names(tree)
             self.assertEqual(len(bound), len(set(bound)), name)
 
@@ -209,7 +216,7 @@ class NameTest(unittest.TestCase):
             for call in ast.walk(last):
                 if isinstance(call, ast.Call):
                     classes = [part.name for part in TREES[name].body if isinstance(part, ast.ClassDef)]
-                    self.assertIn(call.func.id, ["isinstance", "len", "min", "max", "iter"] + classes, (name, node.name))
+                    self.assertIn(call.func.id, ["isinstance", "len", "sum", "min", "max", "iter"] + classes, (name, node.name))
         for name, node in nodes(ast.Name):
             if node.id == "iter":
                 self.assertEqual(len(re.findall(r"return iter\(self\._[a-z]+\)\n", SOURCES[name])), 1, name)
