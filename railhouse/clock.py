@@ -35,16 +35,20 @@ class Clock:
         """Return the times of all events under running times that need not lie in their spans."""
         times = [[] for _ in self._runs]
         for event in self._events:
-            train, number = event
-            found = [times[other][earlier] + gap for other, earlier, gap in self._waits[event]]
-            if number == 0:
-                found.append(self.start_of(train))
-            elif number % 2 == 0:
-                found.append(times[train][-1] + self._dwells[train][number // 2 - 1])
-            else:
-                found.append(times[train][-1] + running[train][number // 2])
-            times[train].append(max(found))
+            times[event[0]].append(self.time_under(running, times, event))
         return times
+
+    def time_under(self, running, times, event):
+        """Return the time of an event under running times, from the times of the events before it."""
+        train, number = event
+        found = [times[other][earlier] + gap for other, earlier, gap in self._waits[event]]
+        if number == 0:
+            found.append(self.start_of(train))
+        elif number % 2 == 0:
+            found.append(times[train][-1] + self._dwells[train][number // 2 - 1])
+        else:
+            found.append(times[train][-1] + running[train][number // 2])
+        return max(found)
 
     def choice(self, *, late=False):
         """Return the choice of all lows, or of all highs."""

@@ -6,13 +6,18 @@ from railhouse.panel import Panel
 
 def perform(panel, deeds):
     """Perform the deeds in order and return their number; if one is refused, take back those before it."""
+    return all_or_none(panel, deeds, _do)
+
+
+def all_or_none(keeper, deeds, act):
+    """Let `act` perform each deed on a panel or a desk, in order; if one is refused, take back those before it."""
     many = 0
     for deed in deeds:
         try:
-            _do(panel, deed)
+            act(keeper, deed)
         except RailError:
             for _ in range(many):
-                panel.undo()
+                keeper.undo()
             raise
         many += 1
     return many

@@ -24,12 +24,7 @@ class Drive:
 
     def step(self, train):
         """Let the next event of the train happen and return its number."""
-        number = self.done(train)
-        if number > self.plan.train_of(train).last:
-            raise TrainDone(train)
-        if not may_happen(self.plan, self._counts, train):
-            waiting, other, block = wait_of(self.plan, self._counts, train)
-            raise MustWait(waiting, other, block)
+        number = next_number(self.plan, self._counts, train)
         self._counts[train] += 1
         self._made.append(train)
         return number
@@ -56,7 +51,7 @@ class Drive:
 
     def may_step(self):
         """Return the trains whose next event may happen, ascending."""
-        return [train for train in range(self.plan.size) if may_happen(self.plan, self._counts, train)]
+        return free_trains(self.plan, self._counts)
 
     def held(self, train):
         """Return the blocks that the train holds, in the order of its way."""
@@ -72,6 +67,23 @@ class Drive:
     def _holds(self, train, step):
         entry, release = self.plan.stay(train, step)
         return entry < self._counts[train] <= release
+
+
+def next_number(plan, done, train):
+    """Return the number of the train's next event; raise TrainDone or MustWait if none may happen."""
+    check_train(plan, train)
+    number = done[train]
+    if number > plan.train_of(train).last:
+        raise TrainDone(train)
+    if not may_happen(plan, done, train):
+        waiting, other, block = wait_of(plan, done, train)
+        raise MustWait(waiting, other, block)
+    return number
+
+
+def free_trains(plan, done):
+    """Return the trains whose next event may happen, ascending."""
+    return [train for train in range(plan.size) if may_happen(plan, done, train)]
 
 
 def is_driving(plan, driving):

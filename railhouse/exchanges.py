@@ -2,18 +2,17 @@
 
 from railhouse.chains import chain_without
 from railhouse.errors import NoPlace
-from railhouse.plans import Plan, bounds_at
+from railhouse.plans import Plan, bounds_at, orders_of, trains_of
 from railhouse.rings import check_alive, is_alive, standstill
 
 
 def exchange(plan, block, place):
     """Return a new plan in which the trains at `place` and `place + 1` of the order of the block changed places."""
     x, y = neighbours(plan, block, place)
-    orders = [plan.order(other) for other in range(plan.layout.size)]
+    orders = orders_of(plan)
     orders[block][place] = y
     orders[block][place + 1] = x
-    trains = [plan.train_of(train) for train in range(plan.size)]
-    return Plan(plan.layout, trains, orders, turns=plan.turns())
+    return Plan(plan.layout, trains_of(plan), orders, turns=plan.turns())
 
 
 def neighbours(plan, block, place):

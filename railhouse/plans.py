@@ -107,6 +107,16 @@ def is_event(plan, event):
     return True
 
 
+def trains_of(plan):
+    """Return all trains of the plan."""
+    return [plan.train_of(train) for train in range(plan.size)]
+
+
+def orders_of(plan):
+    """Return the orders of all blocks."""
+    return [plan.order(block) for block in range(plan.layout.size)]
+
+
 def bounds_at(plan, train, block):
     """Return the bounds of the stay of the train at a block of its way."""
     return plan.stay(train, plan.train_of(train).step_of(block))

@@ -6,13 +6,13 @@ from railhouse.rings import events_of, run_out
 
 def broken(clock, promises, *, late=True):
     """Return `(index, lateness)` for each promise that is broken, ascending."""
-    found = _latenesses(clock, promises, late)
+    found = latenesses(clock.plan, clock.times(late=late), promises)
     return [(at, found[at]) for at in range(len(found)) if found[at] > 0]
 
 
 def greatest_lateness(clock, promises, *, late=True):
     """Return the greatest lateness of all promises, 0 if there are none."""
-    return max(_latenesses(clock, promises, late), default=0)
+    return max(latenesses(clock.plan, clock.times(late=late), promises), default=0)
 
 
 def latest_times(clock, promises, *, late=True):
@@ -49,9 +49,9 @@ def check_promises(plan, promises):
         check_step(plan, train, step)
 
 
-def _latenesses(clock, promises, late):
-    check_promises(clock.plan, promises)
-    times = clock.times(late=late)
+def latenesses(plan, times, promises):
+    """Return the lateness of each promise; `times` has the times of all events."""
+    check_promises(plan, promises)
     return [times[train][2 * step + 1] - latest for train, step, latest in promises]
 
 

@@ -7,11 +7,14 @@ import unittest
 from railhouse.chains import chain
 from railhouse.clock import Clock, critical
 from railhouse.counting import all_tables, count_tables
+from railhouse.desk import Desk
 from railhouse.duels import two_ring
-from railhouse.errors import BadWay, CrowdedEnd, NeverAtOnce
+from railhouse.errors import BadText, BadWay, CrowdedEnd, NeverAtOnce, NotAlive
 from railhouse.exchanges import exchange, mending, needed
 from railhouse.layout import Layout
 from railhouse.line import Line
+from railhouse.notation import format_layout, parse_layout
+from railhouse.notes import format_deeds
 from railhouse.panel import Panel
 from railhouse.places import tracks
 from railhouse.plans import Plan
@@ -76,6 +79,11 @@ FUNCTIONS = {
         "deficit(workings, place, *, turning=0)", "least_sets(workings, *, turning=0)", "link(workings, *, turning=0)",
         "is_linking(workings, links, *, turning=0)",
     ],
+    "turning": ["clock_workings(clock)", "clock_turns(clock)", "with_turns(plan, turns)"],
+    "effects": ["exchange_effects(clock, promises, *, late=False)", "best_exchange(clock, promises, *, late=False)"],
+    "notation": ["format_layout(layout)", "format_plan(plan)", "parse_layout(text)", "parse_plan(text)"],
+    "notes": ["format_deeds(deeds)", "parse_deeds(text)"],
+    "journals": ["replay_desk(clock, deeds)", "attempt(desk, deeds)"],
 }
 CLASSES = {
     "layout.Layout": [
@@ -114,8 +122,13 @@ CLASSES = {
     "line.Line": [
         "__init__(self, yards, sections, east, west)", "trains(self)", "can_meet(self, east, west, yard)",
     ],
+    "desk.Desk": [
+        "__init__(self, clock)", "step(self, train)", "delay(self, train, step, amount)", "exchange(self, block, place)",
+        "undo(self)", "journal(self)", "run(self)", "done(self, train)", "may_step(self)", "holders(self, block)",
+        "times(self)", "forecast(self)", "lateness(self, promises)", "state(self)",
+    ],
 }
-PROPERTIES = {"drives.Drive": ["finished"], "spans.Span": ["width"]}
+PROPERTIES = {"drives.Drive": ["finished"], "spans.Span": ["width"], "desk.Desk": ["finished", "present"]}
 
 
 class NameTest(Case):
@@ -223,6 +236,21 @@ class ExampleTest(Case):
         self.assertEqual([deficit(workings, 0), deficit(workings, 4), deficit(workings, 4, turning=10)],
                          [(2, 20), (0, None), (1, 35)])
         self.assertEqual([link(workings), link(workings, turning=10)], [[(0, 1)], []])
+
+    def test_notation(self):
+        self.assertEqual(format_layout(Layout([5, 7], [(0, 1)], yards=[1])), "layout 2\nplain 5\nyard 7\njoint 0 1\n")
+        self.refused(BadText, {"line": 2}, parse_layout, "layout 1\nplain 05\n")
+
+    def test_notes(self):
+        self.assertEqual(format_deeds([("step", 1), ("request", 3, (4, 5))]), "step 1\nrequest 3 4 5\n")
+
+    def test_desk(self):
+        clock = Clock(self.plan, [[Span(5, 6)] * 5, [Span(5, 6)] * 5], [[1] * 5, [1] * 5], clearing=2)
+        desk = Desk(clock)
+        desk.step(0)
+        desk.delay(0, 0, 1)
+        self.assertEqual([desk.step(0), desk.times()], [6, [[0, 6], []]])
+        self.refused(NotAlive, {"ring": [0, 1]}, Desk(clock).exchange, 1, 0)
 
     def test_attributes(self):
         clock = Clock(self.plan, [[Span(5, 6)] * 5] * 2, [[1] * 5] * 2)
