@@ -30,8 +30,10 @@ def line_plan(line, table):
 
 def table_of(line, plan):
     """Return the table whose plan has the same order of each eastbound and each westbound train."""
-    eastbound, westbound = range(line.eastbound), range(line.westbound)
-    return [[_meeting(line, plan, east, west) for west in westbound] for east in eastbound]
+    table = []
+    for east in range(line.eastbound):
+        table.append([_meeting(line, plan, east, west) for west in range(line.westbound)])
+    return table
 
 
 def _check_table(line, table):
@@ -73,13 +75,13 @@ def _kinds(line, table, east, west):
 
 def _order(line, table, section):
     """Return the trains in the order in which they take the section."""
-    eastbound, westbound = range(line.eastbound), range(line.westbound)
     # The place of a train in the order is the number of trains that go before it.
     places = []
-    for east in eastbound:
-        places.append((east + len([west for west in westbound if table[east][west] < section]), east))
-    for west in westbound:
-        ahead = [east for east in eastbound if table[east][west] >= section]
+    for east in range(line.eastbound):
+        ahead = [yard for yard in table[east] if yard < section]
+        places.append((east + len(ahead), east))
+    for west in range(line.westbound):
+        ahead = [row for row in table if row[west] >= section]
         places.append((west + len(ahead), line.eastbound + west))
     return [train for _, train in sorted(places)]
 

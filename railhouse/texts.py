@@ -17,8 +17,6 @@ def line_of(parts):
 
 def _digits_of(number):
     """Return the number in digits."""
-    if number < 0:
-        return "-" + _digits_of(-number)
     # Python refuses to write a number of some thousand digits at once.
     limit = 10 ** 64
     ends = []

@@ -1,7 +1,7 @@
 """What [67] to [69] say of a desk, word by word: it keeps its deeds alone, and does all else anew."""
 
 import random
-from copy import copy
+from copy import copy, deepcopy
 
 from railhouse.layout import Layout
 from railhouse.errors import MustWait, NoBlock, NoPlace, NoStep, NotAlive, NoTrain, OutOfSpan, RunOver, TooLate, TrainDone
@@ -140,11 +140,11 @@ def do(desk, deed):
 
 
 def view(desk):
-    """Return all that a desk tells of itself."""
+    """Return all that a desk tells of itself, in lists that nobody else has."""
     holders = [desk.holders(block) for block in range(desk.present.layout.size)]
     done = [desk.done(train) for train in range(desk.present.size)]
-    return (desk.state(), desk.journal(), holders, desk.forecast(), desk.times(), desk.may_step(), done, desk.finished,
-            picture(desk.present))
+    told = desk.state(), desk.journal(), holders, desk.forecast(), desk.times(), desk.may_step(), done, desk.finished
+    return deepcopy(told), picture(desk.present)
 
 
 def chance_deed(chance, plan, widest):

@@ -215,6 +215,8 @@ class LineTest(Case):
             for call in (parse_layout, parse_plan):
                 refuse_line(self, call, text + lines, 6)
         self.assertEqual(parse_layout(text + "joint 0 1\njoint 0 2\n").joints(), [(0, 1), (0, 2)])
+        # Each line is compared with the one before, not with the first one.
+        refuse_line(self, parse_layout, text + "joint 0 1\njoint 1 2\njoint 0 2\n", 7)
         # Numbers are compared, not words.
         self.refused(NoBlock, {"block": 10}, parse_layout, text + "joint 0 2\njoint 0 10\n")
         refuse_line(self, parse_layout, text + "joint 0 10\njoint 0 2\n", 6)
